@@ -8,7 +8,7 @@ import (
 type fault api.Errno
 
 // run does a call of a core that isn't down, and takes what it says. A fault takes the core down, and nothing of what the call was about to say is said.
-func (c *Core) run(call func() api.Errno) (ps []api.Post, e api.Errno) {
+func (c *Core) run(call func() api.Errno) (_ []api.Post, e api.Errno) {
 	if c.down {
 		return nil, api.ErrDown
 	}
@@ -21,10 +21,11 @@ func (c *Core) run(call func() api.Errno) (ps []api.Post, e api.Errno) {
 			panic(x)
 		}
 		c.fall()
-		ps, e = nil, api.ErrDown
+		e = api.ErrDown
 	}()
 	e = call()
-	ps, c.posts = c.posts, nil
+	ps := c.posts
+	c.posts = nil
 	return ps, e
 }
 

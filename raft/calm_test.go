@@ -66,6 +66,7 @@ func (g *group) rouse() {
 	g.t.Helper()
 	for i, c := range g.cores {
 		g.disks[i].Stop(-1)
+		g.mayFail[i] = false
 		if c != nil && c.Down() {
 			g.crash(i)
 		}

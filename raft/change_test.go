@@ -1,11 +1,18 @@
 package raft_test
 
 import (
+	"slices"
 	"testing"
 
 	"echelon/api"
 	"echelon/members"
+	"echelon/raft"
 )
+
+// told: is a post to one under way?
+func (g *group) told(i int) bool {
+	return slices.ContainsFunc(g.wire, func(p api.Post) bool { return p.To == i })
+}
 
 // TestTakenOut: who is taken out knows it once that is agreed, and not ahead of it; it stands no more, and isn't told any more.
 func TestTakenOut(t *testing.T) {
@@ -22,18 +29,24 @@ func TestTakenOut(t *testing.T) {
 		if g.cores[lead].Role() != api.Leader || g.cores[out].Leads() != lead {
 			g.fail("P12.6: %d leads no more", lead)
 		}
+		var late []api.Post
 		for range 4 * g.o.Least {
 			g.round(draws, inOrder)
+			for _, p := range g.wire {
+				if w, _ := raft.Tell(p.B); w.From == out {
+					late = append(late[:0], p)
+				}
+			}
 		}
 		if members.Has(g.cores[out].Conf(), out) || g.cores[out].Role() != api.Follower || g.leader(only(draws, []int{lead, other})) != lead {
 			g.fail("P12.6: who was taken out doesn't know it, or %d leads no more: %v", lead, g.cores[out].Conf())
 		}
+		g.propose(lead, 3)
 		for range 8 * g.o.Least {
 			g.round(draws, inOrder)
-			for _, p := range g.wire {
-				if p.To == out {
-					g.fail("a post to %d, which was taken out, and knows it", out)
-				}
+			g.wire = append(g.wire, late...)
+			if g.told(out) {
+				g.fail("a post to %d, which was taken out, and knows it", out)
 			}
 		}
 	}
@@ -50,7 +63,8 @@ func TestStranger(t *testing.T) {
 			g.round(two, inOrder)
 			g.tick(out, draws[out])
 		}
-		if seed%2 == 0 {
+		short := seed%2 == 0
+		if short {
 			g.compact(lead, g.cores[lead].Commit())
 		}
 		term := g.cores[lead].State.Term
@@ -59,6 +73,9 @@ func TestStranger(t *testing.T) {
 			g.round(draws, way)
 			if g.leader(two) != lead || g.cores[lead].State.Term != term {
 				g.fail("P12.6: %d is disturbed; way %d", lead, way)
+			}
+			if short && g.told(out) {
+				g.fail("a post to %d, of which the log tells nothing", out)
 			}
 		}
 		if g.cores[out].State.Term < 3 {

@@ -260,6 +260,19 @@ func TestStopped(t *testing.T) {
 	}
 }
 
+// TestDownReads: reads that were fresh ahead of the error aren't told.
+func TestDownReads(t *testing.T) {
+	c, d := leading(t, plain(1))
+	if _, e := c.Read(1); e != api.OK {
+		t.Fatalf("P12.3: Read: %d", e)
+	}
+	d.Stop(0)
+	if _, _, e := c.Propose([]byte("x")); e != api.ErrDown {
+		t.Fatalf("P12.2: Propose: %d", e)
+	}
+	dead(t, "a read was fresh", c, d)
+}
+
 // TestFull: each call that writes, with as much room on the disk as it may be.
 func TestFull(t *testing.T) {
 	full := 0

@@ -36,7 +36,11 @@ func Tell(b []byte) (Told, bool) {
 
 // Forge makes bytes that have a right sum, and values of the shape of a kind, whatever these are.
 func Forge(r *rand.Rand, kind byte) []byte {
-	v := forged(r, shapeOf(kind), 0)
+	return Lay(kind, forged(r, shapeOf(kind), 0))
+}
+
+// Lay makes bytes of a kind that have a right sum, and this value.
+func Lay(kind byte, v api.Val) []byte {
 	form, e := mould.Put(shapeOf(kind), v)
 	if e != api.OK {
 		panic(e)

@@ -17,7 +17,7 @@ func (c *Core) follows(h head, draw uint64) bool {
 	if c.reign != nil {
 		return false
 	}
-	c.poll, c.leads, c.quiet = nil, h.from, 0
+	c.poll, c.leads = nil, h.from
 	c.clock.Set(draw)
 	return true
 }
@@ -32,10 +32,6 @@ func (m feed) hear(c *Core, draw uint64) {
 		return
 	}
 	if es := c.lacks(m.entries); len(es) > 0 {
-		if es[0].Index <= c.commit {
-			// What is agreed stays, whoever says otherwise.
-			return
-		}
 		c.keep(c.State, es[0].Index, es...)
 	}
 	last := m.prev.Index + len(m.entries)
@@ -49,48 +45,34 @@ func (c *Core) joins(m api.Mark) bool {
 	return m.Index < c.Mark().Index || ok && term == m.Term
 }
 
-// lacks are those of entries that its log doesn't have: from the first one on that is missing or another one.
+// lacks are those of entries that its log doesn't have: from the first one on that is missing or another one. What is agreed is none of these.
 func (c *Core) lacks(es []api.Entry) []api.Entry {
 	for i, e := range es {
 		term, ok := c.Log.Term(e.Index)
-		if e.Index > c.Mark().Index && (!ok || term != e.Term) {
+		if e.Index > c.commit && (!ok || term != e.Term) {
 			return es[i:]
 		}
 	}
 	return nil
 }
 
-// agree is that entries up to an Index are agreed. A snapshot of some of them isn't needed.
+// agree is that entries up to an Index are agreed.
 func (c *Core) agree(index int) {
 	c.commit = max(c.commit, index)
-	if c.heap.Mark().Index <= c.commit {
-		c.heap.Drop()
-	}
 }
 
-// accept tells the leader up to where the logs are the same: at least up to what is agreed.
+// accept tells the leader up to where the logs are the same.
 func (c *Core) accept(to, index, round int) {
-	c.say(to, reply{head: c.head(), yes: true, index: max(index, c.commit), commit: c.commit, round: round})
+	c.say(to, reply{head: c.head(), yes: true, index: index, commit: c.commit, round: round})
 }
 
 // refuse tells the leader that what stood ahead of its entries isn't here.
 func (c *Core) refuse(m feed) {
 	r := reply{head: c.head(), index: m.prev.Index, commit: c.commit, round: m.round}
-	r.hint = c.under(min(m.prev.Index, c.Last().Index), m.prev.Term)
 	if c.heap.Mark() == m.prev {
 		r.place = c.heap.Missing()
 	}
 	c.say(m.from, r)
-}
-
-// under is the last entry up to an Index whose Term isn't above the given one; what the log begins behind, if there is none.
-func (c *Core) under(index, term int) api.Mark {
-	for i := index; i > c.Mark().Index; i-- {
-		if t, _ := c.Log.Term(i); t <= term {
-			return api.Mark{Index: i, Term: t}
-		}
-	}
-	return c.Mark()
 }
 
 // hear gathers a piece of a leader's snapshot, which is installed once it is whole.
@@ -98,26 +80,25 @@ func (m part) hear(c *Core, draw uint64) {
 	if !c.follows(m.head, draw) {
 		return
 	}
-	p := m.piece
-	if term, ok := c.Log.Term(p.Index); p.Index > c.commit && (!ok || term != p.Term) {
-		all, e := c.heap.Take(p)
-		if !all || e != api.OK || !c.install(p.Mark) {
+	if m.piece.Index > c.commit {
+		all, e := c.heap.Take(m.piece)
+		if !all || e != api.OK || !c.install(m.piece.Mark) {
 			return
 		}
 	}
-	c.agree(p.Index)
-	c.accept(m.from, p.Index, 0)
+	c.accept(m.from, c.commit, 0)
 }
 
-// install puts the snapshot that is gathered in the place of what it stands for, if it is one.
+// install puts the snapshot that was gathered in the place of what it stands for, if it is one.
 func (c *Core) install(m api.Mark) bool {
 	b, _ := c.heap.Whole()
+	c.heap.Drop()
 	x, e := shelf.Parse(b)
-	if e != api.OK || x.Mark != m || !isBody(api.KindConf, x.Conf) {
-		c.heap.Drop()
+	if e != api.OK || x.Mark != m {
 		return false
 	}
 	c.must(c.Install(x))
 	c.book = c.read()
+	c.agree(x.Index)
 	return true
 }

@@ -37,8 +37,8 @@ func (g *group) strange(what string, b []byte) {
 	}
 }
 
-// told is all that the cores of a group tell, and when their timers are to fire.
-func (g *group) told() string {
+// tells is all that the cores of a group tell.
+func (g *group) tells() string {
 	s := ""
 	for i, c := range g.cores {
 		s += tell(c, g.disks[i]) + fmt.Sprint(c.Reads())
@@ -51,7 +51,7 @@ func TestStrangeBytes(t *testing.T) {
 	kinds := map[byte]int{}
 	for seed := range int64(6) {
 		g, posts := someScene(t, seed)
-		all := g.told()
+		all := g.tells()
 		for i, p := range posts {
 			kinds[p.B[4]]++
 			if i%7 != 0 && kinds[p.B[4]] > 20 {
@@ -76,8 +76,8 @@ func TestStrangeBytes(t *testing.T) {
 			g.strange("random bytes", b)
 		}
 		g.strange("nothing", nil)
-		if g.told() != all {
-			g.fail("P12.2: it is %s, not %s", g.told(), all)
+		if g.tells() != all {
+			g.fail("P12.2: it is %s, not %s", g.tells(), all)
 		}
 		// The timers weren't set anew, either.
 		for i := range g.cores {

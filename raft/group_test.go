@@ -21,8 +21,9 @@ type group struct {
 	cores []*raft.Core // nil, where one has stopped
 	wire  []api.Post
 	count int // of bodies, snapshots and tokens
-	// Are the bytes of posts spoilt once they were heard?
-	spoils bool
+	// Are the bytes of posts spoilt once they were heard? May the disk of each have an error?
+	spoils  bool
+	mayFail []bool
 	seen
 }
 
@@ -32,7 +33,7 @@ func begin(t *testing.T, seed int64, o api.Options, voters, more, room int) *gro
 	g := &group{t: t, r: rand.New(rand.NewSource(seed)), o: o, seen: unseen(voters + more)}
 	g.o.Boot.Voters = plain(voters).Boot.Voters
 	g.what = fmt.Sprintf("seed %d, %v, %d more", seed, g.o, more)
-	g.cores = make([]*raft.Core, voters+more)
+	g.cores, g.mayFail = make([]*raft.Core, voters+more), make([]bool, voters+more)
 	for range g.cores {
 		g.disks = append(g.disks, space(t, room))
 	}
@@ -76,6 +77,7 @@ func (g *group) crash(i int) {
 		keep = append(keep, g.r.Intn(40)-5)
 	}
 	g.disks[i].Crash(keep...)
+	g.mayFail[i] = false
 }
 
 // span is how many ticks a draw says.
@@ -85,6 +87,9 @@ func (g *group) span(draw uint64) int { return g.o.Least + int(draw%uint64(g.o.L
 func (g *group) after(i int, ps []api.Post, down bool) {
 	g.t.Helper()
 	c := g.cores[i]
+	if c.Down() && !down && !g.mayFail[i] && g.disks[i].Free() > 1000 {
+		g.fail("P12.2: %d is down, and its disk is well", i)
+	}
 	if c.Down() && len(ps) > 0 || down && !c.Down() {
 		g.fail("P12.2: %d is down %t, then %t, and says %d", i, down, c.Down(), len(ps))
 	}

@@ -8,7 +8,7 @@ import (
 	"echelon/tally"
 )
 
-// reign is what a leader keeps of its Term: how far its peers are; of each the last round that it heard, and the one at which it was sent a snapshot; and the reads that aren't fresh yet.
+// reign is what a leader keeps of its Term: how far its peers are; of each the last round that it heard, and the one at which it was sent what it lacks; and the reads that aren't fresh yet.
 type reign struct {
 	*tally.Track
 	ticks, round int
@@ -34,7 +34,7 @@ func (c *Core) lead() {
 // laid is that there are entries behind an Index that weren't there.
 func (c *Core) laid(last int) {
 	c.reign.Only(last, c.others()...)
-	c.spread(last, c.commit)
+	c.spread(last)
 	c.advance()
 }
 
@@ -60,17 +60,12 @@ func (c *Core) peers() []int {
 	return ids
 }
 
-// limit is up to where one is told of entries, of so many, of which so many are agreed. Who was taken out learns it once that is agreed: ahead of it his vote may still be needed.
-func (c *Core) limit(id, last, commit int) int {
+// limit is up to where one is told of entries, of which there are so many. Who was taken out learns it once that is agreed: ahead of it his vote may still be needed.
+func (c *Core) limit(id, last int) int {
 	if members.Has(c.book.now(), id) {
 		return last
 	}
-	return commit
-}
-
-// more: is there anything to be told to one who has been told all up to its next?
-func (c *Core) more(id int) bool {
-	return c.reign.Next(id) <= c.limit(id, c.Last().Index, c.commit)
+	return c.commit
 }
 
 // beat tells all peers that it leads, each time that it is due.
@@ -86,28 +81,31 @@ func (c *Core) beat() {
 func (c *Core) sound() {
 	c.reign.round++
 	for _, id := range c.peers() {
-		c.feed(id, 0)
+		c.tell(id, 0)
 	}
 }
 
-// spread tells of what is new to those peers who were told all that there was. The others will ask for it.
-func (c *Core) spread(last, commit int) {
+// spread tells of what is new to those peers who have all up to an Index. The others will ask for it.
+func (c *Core) spread(last int) {
 	for _, id := range c.peers() {
-		if c.reign.Next(id) > c.limit(id, last, commit) {
-			c.feed(id, c.options.Feed)
+		if c.reign.Next(id) > c.limit(id, last) {
+			c.feed(id)
 		}
 	}
 }
 
-// feed tells a peer of entries, at most so many, and how far all is agreed. One that lacks what is gone into the snapshot is asked whether it has that one's place.
-func (c *Core) feed(id, most int) {
+// feed tells a peer of the entries that it is to have next.
+func (c *Core) feed(id int) {
+	c.reign.sent[id] = c.reign.round
+	c.tell(id, c.options.Feed)
+}
+
+// tell tells a peer of entries, at most so many, and how far all is agreed. One that lacks what is gone into the snapshot is asked whether it has that one's place.
+func (c *Core) tell(id, most int) {
 	next := max(c.reign.Next(id), c.Mark().Index+1)
-	if c.far(id) {
-		most = 0
-	}
 	term, _ := c.Log.Term(next - 1)
 	m := feed{head: c.head(), prev: api.Mark{Index: next - 1, Term: term}, commit: c.commit, round: c.reign.round}
-	m.entries = c.From(next, min(most, c.limit(id, c.Last().Index, c.commit)-next+1))
+	m.entries = c.From(next, min(most, c.limit(id, c.Last().Index)-next+1))
 	c.say(id, m)
 }
 

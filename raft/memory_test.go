@@ -71,8 +71,8 @@ func TestHeardBytes(t *testing.T) {
 		}
 		plainly.rouse()
 		spoiled.rouse()
-		if plainly.told() != spoiled.told() {
-			plainly.fail("rule 5: there is %s, not %s", spoiled.told(), plainly.told())
+		if plainly.tells() != spoiled.tells() {
+			plainly.fail("rule 5: there is %s, not %s", spoiled.tells(), plainly.tells())
 		}
 	}
 }

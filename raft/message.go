@@ -100,28 +100,26 @@ func isBody(kind int, b []byte) bool {
 	return len(b) <= api.MaxBody
 }
 
-// reply is what comes of a feed: up to where the two logs are the same; or that they aren't at what stood ahead of its entries, and how far down they may be. Beside it, what else the leader goes by.
+// reply is what comes of a feed: up to where the two logs are the same; or that they aren't at what stood ahead of its entries. Beside it, what else the leader goes by.
 type reply struct {
 	head
-	yes    bool
-	index  int
-	hint   api.Mark
-	commit int
-	round  int
-	place  int // of the leader's snapshot, how much it has from its first byte on
+	yes           bool
+	index         int
+	commit, round int
+	place         int // of the leader's snapshot, how much it has from its first byte on
 }
 
 func (m reply) value() (byte, api.Val) {
-	return kindReply, row(m.term, m.from, digit(m.yes), m.index, m.hint.Index, m.hint.Term, m.commit, m.round, m.place)
+	return kindReply, row(m.term, m.from, digit(m.yes), m.index, m.commit, m.round, m.place)
 }
 
 func replyOf(v api.Val) (message, bool) {
-	ns, ok := numbers(v, topIndex, api.MaxID, 2, topIndex, topIndex, topIndex, topIndex, topCount, maxSnap)
+	ns, ok := numbers(v, topIndex, api.MaxID, 2, topIndex, topIndex, topCount, maxSnap)
 	if !ok {
 		return nil, false
 	}
-	m := reply{head{ns[0], ns[1]}, ns[2] == 1, ns[3], api.Mark{Index: ns[4], Term: ns[5]}, ns[6], ns[7], ns[8]}
-	return m, m.term > 0 && isMark(m.hint)
+	m := reply{head{ns[0], ns[1]}, ns[2] == 1, ns[3], ns[4], ns[5], ns[6]}
+	return m, m.term > 0
 }
 
 // part is a leader's: a piece of its snapshot.

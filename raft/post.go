@@ -37,7 +37,7 @@ func shapeOf(kind byte) string {
 	case kindFeed:
 		return "[nnnnnn*[nnb]]"
 	case kindReply:
-		return "[nnnnnnnnn]"
+		return "[nnnnnnn]"
 	case kindPart:
 		return "[nnnnnnnb]"
 	}

@@ -59,6 +59,7 @@ func TestReadRounds(t *testing.T) {
 		hear(late, 5, 6)
 		hear(late, four[0])
 		hear(late, four[0])
+		hear(early, four[0])
 		if g.fresh != told {
 			g.fail("P12.3: it is told early")
 		}

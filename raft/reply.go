@@ -10,7 +10,7 @@ import (
 
 // hear goes by what a peer has.
 func (m reply) hear(c *Core, _ uint64) {
-	if !c.answers(m.head) || c.reign == nil || !slices.Contains(c.peers(), m.from) || m.index > c.Last().Index {
+	if !c.answers(m.head) || c.reign == nil || !slices.Contains(c.peers(), m.from) {
 		return
 	}
 	c.reign.heard[m.from] = max(c.reign.heard[m.from], m.round)
@@ -21,52 +21,49 @@ func (m reply) hear(c *Core, _ uint64) {
 	}
 }
 
-// accepted tells a peer what comes next, if there is more, and this isn't said by an old post.
+// accepted tells a peer what comes next, if there is more.
 func (c *Core) accepted(m reply) {
-	c.reign.Ack(m.from, m.index)
-	c.advance()
-	if c.reign == nil || m.index < c.reign.Match(m.from) {
+	moved := c.reign.Ack(m.from, m.index)
+	rose := c.advance()
+	if c.reign == nil || !moved && !c.lost(m) {
 		return
 	}
-	if c.more(m.from) || m.commit < c.commit {
-		c.feed(m.from, c.options.Feed)
+	more := c.reign.Next(m.from) <= c.limit(m.from, c.Last().Index)
+	// One that has all was told of the commit as it rose.
+	if more || m.commit < c.commit && !rose {
+		c.feed(m.from)
 	}
 }
 
-// refused goes back to where the logs may be the same. A snapshot isn't sent again to one who may not have had the time to hear it.
+// lost: was this said behind what the peer was sent last? Else it may not have had the time to hear that, and isn't sent it again.
+func (c *Core) lost(m reply) bool {
+	return m.round > c.reign.sent[m.from]
+}
+
+// refused goes back to where the logs are the same for sure: to what the peer knows to be agreed.
 func (c *Core) refused(m reply) {
-	c.settle()
-	moved := c.reign.Back(m.from, m.index, c.meets(m.hint))
+	moved := c.reign.Back(m.from, m.index, m.commit)
 	switch far := c.far(m.from); {
-	case moved && !far:
-		c.feed(m.from, c.options.Feed)
-	case far && m.index == c.Mark().Index && m.round > c.reign.sent[m.from]:
+	case far && (moved || c.lost(m)):
 		c.ship(m.from, m.place)
 	case moved:
-		c.ship(m.from, 0)
+		c.feed(m.from)
 	}
 }
 
-// meets is the last Index at which its log may be the same as one that is no further up than a place. What is gone into the snapshot can't be looked at.
-func (c *Core) meets(m api.Mark) int {
-	if m.Index <= c.Mark().Index {
-		return m.Index
-	}
-	return c.under(min(m.Index, c.Last().Index), m.Term).Index
-}
-
-// advance lets the commit rise to what most have, if that is of its Term: of others an entry that most have may still be lost. A leader who was taken out leads no more, once that is agreed.
-func (c *Core) advance() {
+// advance lets the commit rise to what most have, if that is of its Term: of others an entry that most have may still be lost. Does it rise? A leader who was taken out leads no more, once that is agreed.
+func (c *Core) advance() bool {
 	own := api.Match{ID: c.id, Index: c.Last().Index}
 	index, elder := tally.Commit(c.book.now(), append(c.reign.All(), own)...), c.commit
 	if term, _ := c.Log.Term(index); index > elder && term == c.Hard.Term {
 		c.agree(index)
-		c.spread(c.Last().Index, elder)
+		c.spread(c.Last().Index)
 	}
 	c.settle()
 	if !members.Has(c.book.now(), c.id) && c.book.at() <= c.commit {
 		c.rest()
 	}
+	return c.commit > elder
 }
 
 // settle lets those reads be fresh whose round most have heard.

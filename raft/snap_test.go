@@ -7,6 +7,8 @@ import (
 	"echelon/api"
 	"echelon/members"
 	"echelon/raft"
+	"echelon/shelf"
+	"echelon/sum"
 )
 
 // cut is a calm group of three of which one hears nothing of what comes: entries, changes, and a snapshot in their place. It answers who leads, and who was cut off.
@@ -42,10 +44,14 @@ func TestSnapshotInPieces(t *testing.T) {
 		o.Piece = []int{1, 2, 7, 30, 1 << 20}[seed%5]
 		g, draws, lead, off := cut(t, seed, o, int(seed%4))
 		way := int(seed/5) % ways
+		pieces := 0
 		for range 20*o.Least + 4*len(log(g.cores[lead])) {
 			g.round(draws, way)
 			for _, p := range g.wire {
-				if g.r.Intn(4) == 0 {
+				if p.B[4] == 5 {
+					pieces++
+				}
+				if seed%2 == 0 && g.r.Intn(4) == 0 {
 					g.wire = append(g.wire, p)
 				}
 			}
@@ -58,6 +64,9 @@ func TestSnapshotInPieces(t *testing.T) {
 		x, ok := g.cores[off].Newest()
 		if !ok || x.Mark != want.Mark || string(x.Body) != string(want.Body) || !members.Has(g.cores[off].Conf(), 3) || len(log(g.cores[off])) != g.cores[all].Last().Index-want.Index {
 			g.fail("P12.5: it has %v, %t, not %v, and behind it %v", x, ok, want, log(g.cores[off]))
+		}
+		if all := len(shelf.Bytes(want)); way == inOrder && seed%2 == 1 && pieces != (all+o.Piece-1)/o.Piece {
+			g.fail("%d pieces were sent, of %d bytes each, for %d bytes", pieces, o.Piece, all)
 		}
 	}
 }
@@ -136,7 +145,7 @@ func TestSnapshotNewer(t *testing.T) {
 		o.Piece = 5
 		g, draws, lead, off := cut(t, seed, o, 3)
 		first := g.pieces(lead, off, draws)
-		for _, b := range first[1:] {
+		for _, b := range first[:len(first)-1] {
 			g.hear(off, b, 0)
 		}
 		g.wire = nil
@@ -148,6 +157,9 @@ func TestSnapshotNewer(t *testing.T) {
 			}
 			g.hear(off, b, 0)
 			g.hear(off, first[i%len(first)], 0)
+		}
+		for _, b := range first {
+			g.hear(off, b, 0)
 		}
 		if g.cores[off].Mark() != g.cores[lead].Mark() || g.cores[off].Commit() != g.cores[lead].Mark().Index {
 			g.fail("P12.5: it has %v, not %v", g.cores[off].Mark(), g.cores[lead].Mark())
@@ -192,5 +204,21 @@ func TestSnapshotNotNeeded(t *testing.T) {
 	}
 	if g.cores[other].Mark().Index != 0 || len(log(g.cores[other])) != len(all) || g.cores[other].Commit() < g.cores[lead].Mark().Index {
 		g.fail("P12.5: it has %v, %v", g.cores[other].Mark(), log(g.cores[other]))
+	}
+}
+
+// TestSnapshotOfAnother: pieces that aren't of the snapshot that they tell of, as no core sends them: nothing is put anywhere, and the core isn't down.
+func TestSnapshotOfAnother(t *testing.T) {
+	d := space(t, 9999)
+	c := opened(t, d, 0, plain(3), 0)
+	other := api.Snap{Mark: api.Mark{Index: 4, Term: 2}, Conf: members.Bytes(plain(3).Boot), Body: []byte("s")}
+	for _, b := range [][]byte{shelf.Bytes(other), []byte("none at all")} {
+		for range 2 {
+			v := with(api.Val{B: b}, 3, 1, 9, 2, uint64(sum.Of(b)), uint64(len(b)), 0)
+			ps, e := c.Hear(raft.Lay(5, v), 0)
+			if len(ps) != 0 || e != api.OK || c.Commit() != 0 || c.Down() || c.Mark() != (api.Mark{}) {
+				t.Errorf("P12.2: %d posts, %d; it is %s", len(ps), e, tell(c, d))
+			}
+		}
 	}
 }

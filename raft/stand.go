@@ -16,7 +16,6 @@ func (c *Core) Tick(draw uint64) []api.Post {
 }
 
 func (c *Core) tick(draw uint64) {
-	c.quiet++
 	fires := c.clock.Tick()
 	switch {
 	case c.reign != nil:
@@ -45,7 +44,6 @@ func (c *Core) enter(s api.State) {
 	if s.Term > elder {
 		c.rest()
 		c.heap.Drop()
-		c.quiet = c.options.Least
 	}
 }
 
@@ -84,14 +82,14 @@ func (c *Core) count(yes bool, id int) {
 	}
 }
 
-// hear lets it vote, and tell what it did. One that isn't a voter here may not know that it was taken out: it isn't heard while a leader is, nor if it couldn't win, or its Terms would bring down all who lead.
+// hear lets it vote, and tell what it did. One that isn't a voter here, and lacks what is, may not know that it was taken out: it isn't heard, or its Terms would bring down all who lead.
 func (m ask) hear(c *Core, draw uint64) {
-	stranger := !members.Votes(c.book.now(), m.from)
-	if stranger && (c.content() || !c.reaches(m.last)) {
+	if !members.Votes(c.book.now(), m.from) && !c.reaches(m.last) {
 		return
 	}
 	newer := m.term > c.Hard.Term
-	yes := (newer || m.term == c.Hard.Term && c.free(m.from)) && c.reaches(m.last)
+	free := newer || m.term == c.Hard.Term && (c.Vote == nobody || c.Vote == m.from)
+	yes := free && c.reaches(m.last)
 	switch {
 	case yes:
 		c.enter(api.State{Term: m.term, Vote: m.from})
@@ -100,16 +98,6 @@ func (m ask) hear(c *Core, draw uint64) {
 		c.turn(m.term)
 	}
 	c.say(m.from, vote{c.head(), yes})
-}
-
-// content: is there a leader, as far as it knows? It leads, or heard one not long ago.
-func (c *Core) content() bool {
-	return c.reign != nil || c.quiet < c.options.Least
-}
-
-// free: may it vote for this one in its Term? Where one leads no other is to be voted for.
-func (c *Core) free(id int) bool {
-	return (c.Vote == nobody || c.Vote == id) && (c.leads == nobody || c.leads == id)
 }
 
 // reaches: has a log with this last entry all agreed ones that are in its own?

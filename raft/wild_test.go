@@ -30,6 +30,7 @@ func (g *group) wild() {
 		g.crash(i)
 	case c != nil && k < 99:
 		g.disks[i].Stop(g.r.Intn(12))
+		g.mayFail[i] = true
 	}
 }
 
