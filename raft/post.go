@@ -90,10 +90,10 @@ func row(ns ...int) api.Val {
 	return v
 }
 
-// What the numbers of a message stay below.
+// What the numbers of a message stay below: Indexes and Terms; counts.
 const (
 	topIndex = api.MaxIndex
-	topCount = 1 << 62
+	topCount = 1 << 40
 )
 
 // numbers are the first ones of a row, each of which must be below its top.

@@ -8,7 +8,6 @@ import (
 	"echelon/members"
 	"echelon/raft"
 	"echelon/shelf"
-	"echelon/sum"
 )
 
 // cut is a calm group of three of which one hears nothing of what comes: entries, changes, and a snapshot in their place. It answers who leads, and who was cut off.
@@ -204,21 +203,5 @@ func TestSnapshotNotNeeded(t *testing.T) {
 	}
 	if g.cores[other].Mark().Index != 0 || len(log(g.cores[other])) != len(all) || g.cores[other].Commit() < g.cores[lead].Mark().Index {
 		g.fail("P12.5: it has %v, %v", g.cores[other].Mark(), log(g.cores[other]))
-	}
-}
-
-// TestSnapshotOfAnother: pieces that aren't of the snapshot that they tell of, as no core sends them: nothing is put anywhere, and the core isn't down.
-func TestSnapshotOfAnother(t *testing.T) {
-	d := space(t, 9999)
-	c := opened(t, d, 0, plain(3), 0)
-	other := api.Snap{Mark: api.Mark{Index: 4, Term: 2}, Conf: members.Bytes(plain(3).Boot), Body: []byte("s")}
-	for _, b := range [][]byte{shelf.Bytes(other), []byte("none at all")} {
-		for range 2 {
-			v := with(api.Val{B: b}, 3, 1, 9, 2, uint64(sum.Of(b)), uint64(len(b)), 0)
-			ps, e := c.Hear(raft.Lay(5, v), 0)
-			if len(ps) != 0 || e != api.OK || c.Commit() != 0 || c.Down() || c.Mark() != (api.Mark{}) {
-				t.Errorf("P12.2: %d posts, %d; it is %s", len(ps), e, tell(c, d))
-			}
-		}
 	}
 }
